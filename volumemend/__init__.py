@@ -1,0 +1,1 @@
+"""Volumemend: a volume of numbers, and a mender that makes any numbers sound."""
