@@ -1,4 +1,4 @@
-"""Asks of the package's files those rules of LANGUAGE.md that can be seen line by line or node by node."""
+"""Asks some rules of LANGUAGE.md of the package's files: those plain to see by line or by node. The others need a reader."""
 
 import ast
 import builtins
