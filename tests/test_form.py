@@ -23,6 +23,14 @@ OWN_NAMES = set("""
     ZeroDivisionError ArithmeticError OverflowError RuntimeError NotImplementedError AttributeError StopIteration
 """.split())
 
+PLAIN_NODES = set("Constant List Tuple Dict UnaryOp USub Name Load".split())
+
+METHODS = set("""
+    append clear copy count endswith extend find get index insert isalnum isalpha isdigit islower isspace isupper
+    items join keys ljust lower lstrip partition pop remove replace reverse rfind rjust rpartition rsplit rstrip
+    setdefault split splitlines startswith strip update upper values zfill bit_length
+""".split())
+
 DUNDERS = set("__init__ __eq__ __repr__ __str__ __len__".split())
 
 NO_WORDS = set("""
@@ -48,6 +56,26 @@ def is_binding(node):
     if isinstance(node, ast.Name):
         return isinstance(node.ctx, ast.Store)
     return isinstance(node, (ast.arg, ast.ClassDef))
+
+
+def methods_of(tree):
+    classes = [node for node in tree.body if isinstance(node, ast.ClassDef)]
+    return {part.name for node in classes for part in node.body if isinstance(part, ast.FunctionDef)}
+
+
+def values_of(tree):
+    stores = [node for node in ast.walk(tree) if isinstance(node, ast.Attribute) and isinstance(node.ctx, ast.Store)]
+    return {node.attr for node in stores}
+
+
+def imports_of(tree):
+    return [node for node in tree.body if isinstance(node, ast.ImportFrom)]
+
+
+def locals_of(tree):
+    defs = [node for node in ast.walk(tree) if isinstance(node, (ast.FunctionDef, ast.Lambda))]
+    inner = [part for node in defs for part in ast.walk(node) if isinstance(part, (ast.Name, ast.arg))]
+    return {word for part in inner if is_binding(part) for word in names_of(part)}
 
 
 class Form(unittest.TestCase):
@@ -106,6 +134,57 @@ class Form(unittest.TestCase):
                     self.assertFalse(hasattr(builtins, word), (name, word))
             if isinstance(node, ast.Name) and hasattr(builtins, node.id):
                 self.assertIn(node.id, OWN_NAMES, name)
+
+    def test_names_at_a_files_top_are_plain_and_bound_once(self):
+        for name, tree in self.trees.items():
+            bound = []
+            for node in tree.body:
+                if isinstance(node, ast.Assign):
+                    kinds = {type(part).__name__ for part in ast.walk(node.value)}
+                    self.assertFalse(kinds - PLAIN_NODES, (name, node.lineno))
+                    bound.append(node.targets[0].id)
+                elif isinstance(node, (ast.FunctionDef, ast.ClassDef)):
+                    bound.append(node.name)
+                elif isinstance(node, ast.ImportFrom):
+                    bound.extend([entry.name for entry in node.names])
+            self.assertEqual(len(set(bound)), len(bound), name)
+            self.assertFalse(set(bound) & locals_of(tree), name)
+
+    def test_names_are_drawn_from_the_file_that_defines_them(self):
+        for name, tree in self.trees.items():
+            for node in imports_of(tree):
+                source = self.trees[node.module.split(".")[1] + ".py"]
+                defined = [part.name for part in source.body if isinstance(part, (ast.FunctionDef, ast.ClassDef))]
+                defined += [part.targets[0].id for part in source.body if isinstance(part, ast.Assign)]
+                self.assertFalse({entry.name for entry in node.names} - set(defined), name)
+
+    def test_no_two_files_draw_from_one_another(self):
+        drawn = {}
+        for name, tree in self.trees.items():
+            drawn[name] = {node.module.split(".")[1] + ".py" for node in imports_of(tree)}
+        left = sorted(drawn)
+        while left:
+            ready = [name for name in left if not drawn[name] & set(left)]
+            self.assertTrue(ready, left)
+            left = [name for name in left if name not in ready]
+
+    def test_no_name_is_a_method_and_a_value(self):
+        methods = set().union(*[methods_of(tree) for tree in self.trees.values()])
+        values = set().union(*[values_of(tree) for tree in self.trees.values()])
+        self.assertFalse(methods & values)
+
+    def test_methods_are_the_programs_own_or_listed(self):
+        own = set().union(METHODS, DUNDERS, *[methods_of(tree) for tree in self.trees.values()])
+        for name, node in self.nodes():
+            if isinstance(node, ast.Call) and isinstance(node.func, ast.Attribute):
+                self.assertIn(node.func.attr, own, (name, node.lineno))
+
+    def test_is_and_powers(self):
+        for name, node in self.nodes():
+            if isinstance(node, ast.Compare) and isinstance(node.ops[0], (ast.Is, ast.IsNot)):
+                self.assertIn(ast.unparse(node.comparators[0]), ("None", "True", "False"), (name, node.lineno))
+            if isinstance(node, ast.BinOp) and isinstance(node.op, ast.Pow):
+                self.assertIsInstance(node.right, ast.Constant, (name, node.lineno))
 
 
 if __name__ == "__main__":
