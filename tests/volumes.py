@@ -1,0 +1,64 @@
+"""Sound volumes for the tests, made by hand: what hangs on other numbers (names, found, map) is worked out here."""
+
+from volumemend.layout import TOP, Layout, empty
+
+
+def row_of(first):
+    return [first + place for place in range(8)]
+
+
+def claimed_blocks(layout, volume):
+    """The data blocks that pointers tell, by files and pointers in order; each pointer is asked whether it is right."""
+    told = []
+    for f in range(1, layout.files):
+        kind, size, names, found, *first, more = volume[layout.record_at(f)]
+        if kind != 1:
+            continue
+        assert 0 <= size <= 88, f
+        blocks = first + (volume[more] if more else [])
+        wanted = [8 * k < size for k in range(11)]
+        right = [block == 0 or wanted[k] for k, block in enumerate(blocks)] + [more == 0 or size > 24]
+        assert all(right), f
+        told += [block for block in first + [more] + blocks[3:] if block]
+    assert len(set(told)) == len(told) and all(layout.is_data(block) for block in told), told
+    return told
+
+
+def assert_tree(layout, volume, slots):
+    kinds = [2] + [volume[layout.record_at(f)][0] for f in range(1, layout.files)]
+    assert set(kinds) <= {0, 1, 2}
+    places = [(folder, name) for folder, name, file in slots.values()]
+    assert len(set(places)) == len(places)
+    up = {}
+    for folder, name, file in slots.values():
+        assert kinds[folder] == 2 and 1 <= name <= TOP and file != 0 and kinds[file] in (1, 2)
+        if kinds[file] == 2:
+            assert file not in up
+            up[file] = folder
+    for folder in up:
+        steps = 0
+        while folder in up:
+            folder, steps = up[folder], steps + 1
+            assert steps < layout.files
+
+
+def sound(numbers, records, slots, blocks=None, unused=None):
+    """records: f -> (kind, size, p0, p1, p2, more); slots: s -> (folder, name, file); unused: s -> three numbers."""
+    layout = Layout(*numbers)
+    volume = empty(layout, 5)
+    for block, row in (blocks or {}).items():
+        volume[block] = list(row)
+    for f, (kind, size, *pointers) in records.items():
+        naming = [s for s, said in slots.items() if said[2] == f]
+        volume[10 + f] = [kind, size, len(naming), 0 if naming or kind == 0 else 1] + pointers
+    said = {s: [0, *rest] for s, rest in (unused or {}).items()}
+    said.update({s: [1, *rest] for s, rest in slots.items()})
+    for s, four in said.items():
+        place = 4 * (s % 2)
+        volume[10 + numbers[0] + s // 2][place:place + 4] = four
+    for block in claimed_blocks(layout, volume):
+        place = block - layout.data_at(0)
+        volume[2][place // 20] += 2 ** (place % 20)
+    assert_tree(layout, volume, slots)
+    assert all(0 <= number <= TOP for row in volume for number in row)
+    return layout, volume
