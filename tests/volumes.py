@@ -1,5 +1,9 @@
-"""Sound volumes for the tests, made by hand: what hangs on other numbers (names, found, map) is worked out here."""
+"""Sound volumes for the tests, made by hand: what hangs on other numbers (names, found, map) is worked out here.
+And what is asked of every deed."""
 
+import copy
+
+from volumemend.journal import put
 from volumemend.layout import TOP, Layout, empty
 
 
@@ -62,3 +66,41 @@ def sound(numbers, records, slots, blocks=None, unused=None):
     assert_tree(layout, volume, slots)
     assert all(0 <= number <= TOP for row in volume for number in row)
     return layout, volume
+
+
+def homes_of(case, layout, volume, deed):
+    """A deed's homes, asked as the document tells them of every deed."""
+    before = copy.deepcopy(volume)
+    told = deed.homes(layout, volume)
+    case.assertIs(type(told), list)
+    blocks = [block for block, row in told]
+    case.assertEqual(blocks, sorted(set(blocks)))
+    case.assertLessEqual(len(told), 6)
+    for home in told:
+        case.assertIs(type(home), tuple)
+        block, row = home
+        case.assertTrue(layout.is_home(block), block)
+        case.assertIs(type(row), list)
+        case.assertEqual([type(number) for number in row], [int] * 8)
+        case.assertNotEqual(row, volume[block])
+    due = copy.deepcopy(told)
+    for block, row in told:
+        row.clear()
+    told.clear()
+    case.assertEqual(deed.homes(layout, volume), due)
+    case.assertEqual(volume, before)
+    return due
+
+
+def behind(case, layout, volume, deed):
+    """The volume behind a deed."""
+    return put(volume, homes_of(case, layout, volume, deed))
+
+
+def assert_refused(case, layout, volume, deed, error):
+    before = copy.deepcopy(volume)
+    for turn in range(2):
+        with case.assertRaises(error) as caught:
+            deed.homes(layout, volume)
+        case.assertIs(type(caught.exception), error)
+    case.assertEqual(volume, before)

@@ -4,7 +4,11 @@ from volumemend.layout import WIDE
 
 FILE = 1
 FOLDER = 2
-# The places of p0, p1, p2 in a record; more lies behind them.
+# The places of a record's numbers; p0, p1, p2 begin at FIRST_AT.
+KIND_AT = 0
+SIZE_AT = 1
+NAMES_AT = 2
+FOUND_AT = 3
 FIRST_AT = 4
 MORE_AT = 7
 # How many pieces stand in p0, p1, p2, and how many a file has at the most.
@@ -14,10 +18,10 @@ PIECES = 11
 
 class Record:
     def __init__(self, row):
-        self.kind = row[0]
-        self.size = row[1]
-        self.names = row[2]
-        self.found = row[3]
+        self.kind = row[KIND_AT]
+        self.size = row[SIZE_AT]
+        self.names = row[NAMES_AT]
+        self.found = row[FOUND_AT]
         self.first = tuple(row[FIRST_AT:MORE_AT])
         self.more = row[MORE_AT]
 
@@ -54,9 +58,9 @@ class FreeRecord(Record):
 
 
 def record_of(row):
-    if row[0] == FILE:
+    if row[KIND_AT] == FILE:
         return FileRecord(row)
-    if row[0] == FOLDER:
+    if row[KIND_AT] == FOLDER:
         return FolderRecord(row)
     return FreeRecord(row)
 
