@@ -1,7 +1,8 @@
 """Sound volumes for the tests, made by hand: what hangs on other numbers (names, found, map) is worked out here.
-And what is asked of every deed."""
+Volumes with any numbers. And what is asked of every deed."""
 
 import copy
+import random
 
 from volumemend.journal import put
 from volumemend.layout import TOP, Layout, empty
@@ -66,6 +67,56 @@ def sound(numbers, records, slots, blocks=None, unused=None):
     assert_tree(layout, volume, slots)
     assert all(0 <= number <= TOP for row in volume for number in row)
     return layout, volume
+
+
+# Numbers that may mean something in one place or another, and such as no sound volume has.
+ANY = (0, 0, 0, 1, 1, 2, 2, 3, 4, 5, 6, 9, 10, 13, 16, 17, 18, 20, 24, 25, 30, 88, 89, 1179, TOP, TOP + 1, -1, -2, -88,
+       -TOP, 10 ** 39, 10 ** 40 - 1, 1 - 10 ** 40)
+
+
+def noisy(layout, seed):
+    chance = random.Random(seed)
+    return [[chance.choice(ANY) for place in range(8)] for block in range(layout.many())]
+
+
+def likely(layout, seed):
+    """Any numbers, but most of them such as might stand in a sound volume at their place: much hangs together here."""
+    chance = random.Random(seed)
+    data = [layout.data_at(place) for place in range(layout.data)]
+    volume = empty(layout, chance.choice((0, 7, TOP)))
+    for row in volume[4:10]:
+        row[:] = [chance.choice((0, 1, 2, 5, data[0], data[-1])) for place in range(8)]
+    for f in range(layout.files):
+        pointers = [chance.choice([0] + data) for place in range(4)]
+        size = chance.choice((0, 3, 8, 20, 24, 25, 40, 88, 88, 89, -1))
+        volume[layout.record_at(f)] = [chance.choice((0, 1, 1, 2, 2, 2)), size, chance.randrange(3), chance.randrange(2)] + pointers
+    for e in range(layout.slots):
+        volume[layout.names_at(e)] = [
+            number for turn in range(2) for number in (
+                chance.choice((0, 1, 1, 1, 1, 2)), chance.randrange(layout.files), chance.choice((1, 2, 3, 0, TOP)),
+                chance.randrange(layout.files))
+        ]
+    for block in data:
+        volume[block] = [chance.choice([0, 1] + data) for place in range(8)]
+    for turn in range(chance.choice((0, 0, 1, 5))):
+        volume[chance.randrange(layout.many())][chance.randrange(8)] = chance.choice(ANY)
+    return volume
+
+
+def with_journal(layout, volume, seed):
+    """The volume with a journal that is whole, and any numbers in the homes that it tells."""
+    chance = random.Random(seed)
+    homes = [2] + list(range(10, layout.many()))
+    count = chance.randrange(1, 7)
+    targets = (chance.sample(homes, count) + [0] * 6)[:6]
+    told = [list(row) for row in volume]
+    for target in targets[:count]:
+        if chance.randrange(2):
+            told[target] = [chance.choice(ANY) for place in range(8)]
+    numbers = [count] + targets + [number for row in told[4:4 + count] for number in row]
+    check = sum(place * number for place, number in enumerate(numbers, 1)) % 1000003
+    told[3] = [count, check] + targets
+    return told
 
 
 def homes_of(case, layout, volume, deed):
