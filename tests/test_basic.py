@@ -145,6 +145,12 @@ class Head(Clause):
             (0, 1, 0), (0, 6, 0), (0, 7, 1229), (1, 7, 1229),
         ])
 
+    def test_head_rows_in_other_blocks_are_no_heads(self):
+        volume = [head(7) for block in range(22)]
+        volume[0] = [0] * 8
+        volume[1] = [0] * 8
+        self.ask("head", volume, in_order(0, [0] * 8, head(0)) + in_order(1, [0] * 8, head(0)))
+
     def test_a_check_that_is_right_beside_the_remainder(self):
         for other in (1243 + 1000003, 1243 - 1000003):
             row = [1179, 7, 4, 2, 6, 0, 0, other]

@@ -39,6 +39,48 @@ NO_WORDS = set("""
 """.split())
 
 
+# Calls whose answer is walked on the spot, and those that walk it so.
+WALKED = set("zip enumerate reversed range".split())
+WALKED_METHODS = set("items keys values".split())
+WALKERS = set("list tuple dict sorted sum any all enumerate zip min max".split())
+
+KEYWORDS = {"sorted": {"key", "reverse"}, "min": {"key", "default"}, "max": {"key", "default"}, "sum": {"start"},
+            "enumerate": {"start"}, "zip": {"strict"}}
+
+
+def parents_of(tree):
+    return {child: node for node in ast.walk(tree) for child in ast.iter_child_nodes(node)}
+
+
+def called_name(node):
+    """The name that is called, where the node is a call of a name."""
+    return node.func.id if isinstance(node, ast.Call) and isinstance(node.func, ast.Name) else ""
+
+
+def is_walked_call(node):
+    if called_name(node) in WALKED:
+        return True
+    method = isinstance(node, ast.Call) and isinstance(node.func, ast.Attribute)
+    return method and node.func.attr in WALKED_METHODS and not node.args
+
+
+def is_walked_on_the_spot(node, parent):
+    if isinstance(parent, (ast.For, ast.comprehension)):
+        return parent.iter is node
+    return called_name(parent) in WALKERS and node in parent.args
+
+
+def is_class_in_its_place(node, parent, parents):
+    """Whether a class is called, a base, taken or asked by isinstance; also Base.__init__."""
+    if isinstance(parent, ast.Tuple):
+        node, parent = parent, parents[parent]
+    if isinstance(parent, ast.Call):
+        return parent.func is node or (called_name(parent) == "isinstance" and parent.args[1] is node)
+    if isinstance(parent, ast.Attribute):
+        return parent.attr == "__init__"
+    return isinstance(parent, (ast.ClassDef, ast.ExceptHandler))
+
+
 def names_of(node):
     if isinstance(node, ast.Name):
         return [node.id]
@@ -185,6 +227,36 @@ class Form(unittest.TestCase):
                 self.assertIn(ast.unparse(node.comparators[0]), ("None", "True", "False"), (name, node.lineno))
             if isinstance(node, ast.BinOp) and isinstance(node.op, ast.Pow):
                 self.assertIsInstance(node.right, ast.Constant, (name, node.lineno))
+
+    def test_what_is_walked_is_walked_on_the_spot(self):
+        for name, tree in self.trees.items():
+            parents = parents_of(tree)
+            for node in ast.walk(tree):
+                if is_walked_call(node):
+                    self.assertTrue(is_walked_on_the_spot(node, parents[node]), (name, node.lineno))
+
+    def test_sets_are_not_kept(self):
+        for name, tree in self.trees.items():
+            parents = parents_of(tree)
+            for node in ast.walk(tree):
+                if called_name(node) == "set":
+                    parent = parents[node]
+                    fine = isinstance(parent, ast.Compare) or called_name(parent) in ("len", "sorted")
+                    self.assertTrue(fine, (name, node.lineno))
+
+    def test_classes_are_not_handed_on(self):
+        classes = {node.name for name, node in self.nodes() if isinstance(node, ast.ClassDef)}
+        for name, tree in self.trees.items():
+            parents = parents_of(tree)
+            for node in ast.walk(tree):
+                if isinstance(node, ast.Name) and node.id in classes:
+                    self.assertTrue(is_class_in_its_place(node, parents[node], parents), (name, node.lineno))
+
+    def test_keywords(self):
+        for name, node in self.nodes():
+            if isinstance(node, ast.Call):
+                words = {keyword.arg for keyword in node.keywords}
+                self.assertFalse(words - KEYWORDS.get(called_name(node), set()), (name, node.lineno))
 
 
 if __name__ == "__main__":

@@ -97,7 +97,9 @@ class FindPath(Paths):
                         function(self.layout, self.volume, path)
 
     def test_of_the_least_layout(self):
-        layout, volume = sound((2, 1, 2), {1: (1, 3, 13, 0, 0, 0)}, {1: (0, 1, 1)}, {13: row_of(1)})
+        # The block behind the records would, as a record, be a found file.
+        layout, volume = sound((2, 1, 2), {1: (1, 3, 13, 0, 0, 0)}, {0: (0, 1, 1)}, {13: row_of(1)})
+        self.assertEqual(volume[12], [1, 0, 1, 1, 0, 0, 0, 0])
         self.assertEqual(find_path(layout, volume, (1,)), 1)
         self.assertEqual(info(layout, volume, (1,)), (1, 3, 1))
         self.assertEqual(read(layout, volume, (1,)), [1, 2, 3])

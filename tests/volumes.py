@@ -6,6 +6,7 @@ import random
 
 from volumemend.journal import put
 from volumemend.layout import TOP, Layout, empty
+from volumemend.mender import faults
 
 
 def row_of(first):
@@ -66,6 +67,7 @@ def sound(numbers, records, slots, blocks=None, unused=None):
         volume[2][place // 20] += 2 ** (place % 20)
     assert_tree(layout, volume, slots)
     assert all(0 <= number <= TOP for row in volume for number in row)
+    assert faults(layout, volume) == []
     return layout, volume
 
 
@@ -140,6 +142,7 @@ def homes_of(case, layout, volume, deed):
     told.clear()
     case.assertEqual(deed.homes(layout, volume), due)
     case.assertEqual(volume, before)
+    case.assertEqual(faults(layout, put(volume, due)), [])
     return due
 
 
